@@ -36,6 +36,10 @@ NODES = tuple(getattr(ast, name) for name in (
     "Call keyword JoinedStr FormattedValue Constant Attribute Subscript Name List Tuple Slice Load Store arguments "
     "arg alias"
 ).split())
+KEYWORDS = {
+    "sorted": ("key", "reverse"), "min": ("key", "default"), "max": ("key", "default"), "sum": ("start",),
+    "enumerate": ("start",), "zip": ("strict",),
+}
 WALKED = {"zip", "enumerate", "reversed", "range"}
 WALKERS = {"list", "tuple", "dict", "sorted", "sum", "any", "all", "enumerate", "zip", "min", "max"}
 
@@ -244,6 +248,11 @@ class Language(unittest.TestCase):
         for name, node in nodes(ast.Call):
             if isinstance(node.func, ast.Attribute):
                 self.assertIn(node.func.attr, own, (name, node.lineno))
+
+    def test_keywords(self):
+        for name, node in nodes(ast.Call):
+            known = KEYWORDS.get(node.func.id, ()) if isinstance(node.func, ast.Name) else ()
+            self.none([(name, node.lineno, word.arg) for word in node.keywords if word.arg not in known])
 
     def test_walked_at_once(self):
         for name, tree in trees():

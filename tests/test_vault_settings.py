@@ -5,9 +5,7 @@ import unittest
 
 from dialvault.errors import NoLever, NoPulls, NoSetting, VaultError
 from dialvault.vault import Vault, between, is_pulls, is_setting, kept, nought, pulled, turned
-
-BIG = 123456789012345678901234567890
-NO_NUMBERS = [True, False, None, "", "0", (), (0,), [], [0], {}]
+from plain import BIG, NO_NUMBERS, THINGS, Refused
 
 
 def clock():
@@ -16,32 +14,6 @@ def clock():
 
 def leverless():
     return Vault([4, 6], [])
-
-
-class Odd:
-    def __eq__(self, other):
-        raise RuntimeError
-
-    def __len__(self):
-        raise RuntimeError
-
-    def __bool__(self):
-        raise RuntimeError
-
-
-THINGS = [
-    None, True, False, 0, 1, -1, BIG, "", "0", "000", "0 0 0", [], [0, 0, 0], [0, 0], {}, {0: 0, 1: 0, 2: 0},
-    (), (0,), (0, 0, 0, 0), ((0, 0, 0),), (None, None, None), ("0", "0", "0"), set(), b"000", Odd(), Odd, len,
-    range(3), ...,
-]
-
-
-class Refused(unittest.TestCase):
-    def refused(self, kind, call, *arguments):
-        with self.assertRaises(VaultError) as caught:
-            call(*arguments)
-        self.assertIs(type(caught.exception), kind)
-        return caught.exception
 
 
 class Nought(unittest.TestCase):

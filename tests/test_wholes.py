@@ -4,6 +4,7 @@ import math
 import unittest
 
 from dialvault.wholes import common, is_whole, multiple_of, product_of, rest_sum
+from plain import Odd
 
 BIG = [
     999999999999999999999999999999,
@@ -18,23 +19,6 @@ BIG = [
 
 class Counted(int):
     pass
-
-
-class Odd:
-    def __eq__(self, other):
-        raise RuntimeError
-
-    def __len__(self):
-        raise RuntimeError
-
-    def __bool__(self):
-        raise RuntimeError
-
-    def __int__(self):
-        return 1
-
-    def __index__(self):
-        return 1
 
 
 class IsWhole(unittest.TestCase):
