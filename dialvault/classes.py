@@ -1,8 +1,8 @@
 """The classes of a vault's settings, and what some of its levers can do for all of them."""
 
-from dialvault.errors import NoNumber, TooMany, Unlike
+from dialvault.errors import NoNumber, TooMany
 from dialvault.rungs import Rungs, bring
-from dialvault.vault import Vault, added, between, is_within, need_setting, nought, turned
+from dialvault.vault import Vault, added, between, is_within, need_same_sizes, need_setting, nought, turned
 from dialvault.wholes import product_of
 
 MOST_SETTINGS = 1024
@@ -46,8 +46,7 @@ def normal(vault, pulls):
 
 # The steps hang on the doings alone, and make them all.
 def does_as(one, other):
-    if one.sizes() != other.sizes():
-        raise Unlike("these vaults have unlike dials")
+    need_same_sizes(one.sizes(), other.sizes())
     return Rungs(one).rows() == Rungs(other).rows()
 
 

@@ -1,6 +1,6 @@
 """The vault: its dials and levers, its settings, and what pulls make of them."""
 
-from dialvault.errors import NoDial, NoLever, NoPrice, NoPulls, NoSetting, TooMany
+from dialvault.errors import NoDial, NoLever, NoPrice, NoPulls, NoSetting, TooMany, Unlike
 from dialvault.wholes import is_row, is_whole, multiple_of
 
 MOST_DIALS = 6
@@ -46,6 +46,11 @@ def need_sizes(sizes):
     for dial, size in enumerate(sizes):
         if not is_within(size, LEAST_SIZE, MOST_SIZE):
             raise NoDial(dial)
+
+
+def need_same_sizes(sizes, others):
+    if sizes != others:
+        raise Unlike("these dials have unlike sizes")
 
 
 def need_levers(levers, dials):

@@ -80,8 +80,8 @@ def stills(sizes, levers):
     return [w for w in settings(sizes) if all(weight_of(sizes, w, lever) == 0 for lever in levers)]
 
 
-def step_sizes(sizes, levers):
-    done = doings(sizes, levers)
+# The step sizes and the steps, of all the doings.
+def sizes_of(sizes, done):
     told = []
     for dial, size in enumerate(sizes):
         notches = [d[dial] for d in done if not any(d[:dial]) and d[dial] > 0]
@@ -89,15 +89,32 @@ def step_sizes(sizes, levers):
     return tuple(told)
 
 
-def step_rows(sizes, levers):
-    done = doings(sizes, levers)
+def rows_of(sizes, done):
     told = []
-    for dial, step in enumerate(step_sizes(sizes, levers)):
+    for dial, step in enumerate(sizes_of(sizes, done)):
         if step == sizes[dial]:
             told.append((0,) * len(sizes))
         else:
             told.append(min(d for d in done if not any(d[:dial]) and d[dial] == step))
     return told
+
+
+def step_sizes(sizes, levers):
+    return sizes_of(sizes, doings(sizes, levers))
+
+
+def step_rows(sizes, levers):
+    return rows_of(sizes, doings(sizes, levers))
+
+
+# All that a vault tells of itself; and what the clear vault tells that has these doings.
+def told(vault):
+    return (vault.sizes(), vault.levers(), vault.prices())
+
+
+def clear_told(sizes, done):
+    levers = tuple(row for row in rows_of(sizes, done) if any(row))
+    return (tuple(sizes), levers, (1,) * len(levers))
 
 
 def spans(sizes, levers):
@@ -153,12 +170,42 @@ SMALL = [
 # More of them, the same each time; few settings, so that every two of them can be asked.
 def more_small(seed, count, most):
     chance = random.Random(seed)
-    told = []
-    while len(told) < count:
+    found = []
+    while len(found) < count:
         sizes = tuple(chance.choice((2, 3, 4, 5, 6, 8, 9, 10, 12, 16)) for _ in range(chance.randint(1, 4)))
         if math.prod(sizes) > most:
             continue
         stride = chance.choice((1, 1, 2, 3))
-        levers = [tuple(stride * chance.randrange(size) % size for size in sizes) for _ in range(chance.randint(0, 5))]
-        told.append((sizes, tuple(levers)))
-    return told
+        found.append((sizes, drawn_levers(chance, sizes, chance.randint(0, 5), stride)))
+    return found
+
+
+def drawn_levers(chance, sizes, count, stride):
+    return tuple(tuple(stride * chance.randrange(size) % size for size in sizes) for _ in range(count))
+
+
+# Sizes of a vault that is too large to be gone through.
+SIZES = (360, 240, 180, 144, 100, 64)
+
+
+def large_vaults():
+    chance = random.Random(360)
+    found = [
+        (SIZES, ()),
+        (SIZES, ((0,) * 6,) * 8),
+        (SIZES, ((1, 1, 1, 1, 1, 1),)),
+        (SIZES, ((2, 4, 6, 8, 10, 12),) * 8),
+        ((360,) * 6, tuple(tuple(180 if k == j else 0 for k in range(6)) for j in range(6))),
+        ((360,) * 6, tuple(tuple(1 if k == j % 6 else 0 for k in range(6)) for j in range(8))),
+        ((360, 359, 358, 357, 353, 349), ((1, 1, 1, 1, 1, 1), (359, 358, 357, 356, 352, 348))),
+        ((360, 359, 358, 357, 353, 349), ((2, 2, 2, 2, 2, 2), (3, 3, 3, 3, 3, 3), (5, 0, 1, 0, 1, 0))),
+        ((2, 360, 2, 360, 2, 360), ((1, 1, 1, 1, 1, 1), (0, 180, 1, 90, 0, 45), (1, 7, 0, 77, 1, 177))),
+    ]
+    for count in range(1, 9):
+        for stride in (1, 2, 6, 12, 60):
+            sizes = tuple(chance.choice((360, 359, 240, 210, 128, 81, 36, 343, 2)) for _ in range(6))
+            found.append((sizes, drawn_levers(chance, sizes, count, stride)))
+    # The same again: levers that are sums of those ahead of them do nothing more.
+    for sizes, levers in found[-6:]:
+        found.append((sizes, levers[:4] + tuple(plus(sizes, levers[j], levers[j + 1], 7) for j in range(4))))
+    return found

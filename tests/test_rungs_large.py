@@ -9,33 +9,7 @@ import unittest
 
 from dialvault.rungs import Rungs
 from dialvault.vault import Vault, turned
-from plain import plus, reached, weight_of
-
-SIZES = (360, 240, 180, 144, 100, 64)
-
-
-def large_vaults():
-    chance = random.Random(360)
-    told = [
-        (SIZES, ()),
-        (SIZES, ((0,) * 6,) * 8),
-        (SIZES, ((1, 1, 1, 1, 1, 1),)),
-        (SIZES, ((2, 4, 6, 8, 10, 12),) * 8),
-        ((360,) * 6, tuple(tuple(180 if k == j else 0 for k in range(6)) for j in range(6))),
-        ((360,) * 6, tuple(tuple(1 if k == j % 6 else 0 for k in range(6)) for j in range(8))),
-        ((360, 359, 358, 357, 353, 349), ((1, 1, 1, 1, 1, 1), (359, 358, 357, 356, 352, 348))),
-        ((360, 359, 358, 357, 353, 349), ((2, 2, 2, 2, 2, 2), (3, 3, 3, 3, 3, 3), (5, 0, 1, 0, 1, 0))),
-        ((2, 360, 2, 360, 2, 360), ((1, 1, 1, 1, 1, 1), (0, 180, 1, 90, 0, 45), (1, 7, 0, 77, 1, 177))),
-    ]
-    for count in range(1, 9):
-        for stride in (1, 2, 6, 12, 60):
-            sizes = tuple(chance.choice((360, 359, 240, 210, 128, 81, 36, 343, 2)) for _ in range(6))
-            levers = [tuple(stride * chance.randrange(size) % size for size in sizes) for _ in range(count)]
-            told.append((sizes, tuple(levers)))
-    # The same again: levers that are sums of those ahead of them do nothing more.
-    for sizes, levers in told[-6:]:
-        told.append((sizes, levers[:4] + tuple(plus(sizes, levers[j], levers[j + 1], 7) for j in range(4))))
-    return told
+from plain import SIZES, large_vaults, plus, reached, weight_of
 
 
 class Large(unittest.TestCase):
