@@ -3,7 +3,7 @@
 from dialvault.errors import NoGear
 from dialvault.stills import clear, stills
 from dialvault.vault import Vault, need_same_sizes, need_setting
-from dialvault.wholes import is_row, rest_sum
+from dialvault.wholes import is_row, rest_sum, rest_sums
 
 
 class Gear:
@@ -16,12 +16,7 @@ class Gear:
 
     def led(self, setting):
         need_setting(self.front_dials, setting)
-        rear = self.rear_dials.sizes()
-        return tuple([rest_sum(setting, column(self.tooth_rows, dial), size) for dial, size in enumerate(rear)])
-
-
-def column(rows, place):
-    return [row[place] for row in rows]
+        return rest_sums(setting, self.tooth_rows, self.rear_dials.sizes())
 
 
 def is_tooth_row(thing, size, rear):

@@ -3,7 +3,7 @@
 from dialvault.errors import NoDial
 from dialvault.papers import Bar, Way, weigh
 from dialvault.vault import between, is_within, need_setting, nought, rests
-from dialvault.wholes import common
+from dialvault.wholes import common, unit_row
 
 
 def mixed(row, times, other, others):
@@ -23,7 +23,7 @@ def unpulled(vault, setting):
 
 def pulled_once(vault, lever):
     levers = vault.levers()
-    return (levers[lever], tuple([1 if place == lever else 0 for place in range(len(levers))]))
+    return (levers[lever], unit_row(len(levers), lever))
 
 
 # Kept by its dial, a step of the dial's whole size is 0 there.

@@ -41,5 +41,18 @@ def product_of(numbers):
     return product
 
 
+def unit_row(length, place):
+    return tuple([1 if other == place else 0 for other in range(length)])
+
+
+def column(rows, place):
+    return [row[place] for row in rows]
+
+
 def rest_sum(numbers, others, by):
     return sum([number * other for number, other in zip(numbers, others)]) % by
+
+
+# Each row tells what one turn of its number adds at each place.
+def rest_sums(numbers, rows, sizes):
+    return tuple([rest_sum(numbers, column(rows, place), size) for place, size in enumerate(sizes)])
