@@ -167,6 +167,29 @@ class Language(unittest.TestCase):
             self.assertEqual(len(names), len(set(names)), name)
             self.none([node.name for node in ast.walk(tree) if isinstance(node, ast.ClassDef) and node not in tree.body])
 
+    def test_lists_and_dicts_of_the_top_are_only_read(self):
+        for name, tree in trees():
+            tops = [
+                target.id for node in tree.body if isinstance(node, ast.Assign) for target in node.targets
+                if isinstance(node.value, (ast.List, ast.Dict))
+            ]
+            fine = []
+            for node in ast.walk(tree):
+                if isinstance(node, ast.Subscript) and isinstance(node.ctx, ast.Load):
+                    fine.append(node.value)
+                elif isinstance(node, ast.Compare) and isinstance(node.ops[0], (ast.In, ast.NotIn)):
+                    fine.append(node.comparators[0])
+                elif isinstance(node, (ast.For, ast.comprehension)):
+                    fine.append(node.iter)
+            for node in ast.walk(tree):
+                if isinstance(node, ast.Name) and node.id in tops and isinstance(node.ctx, ast.Load):
+                    self.assertIn(node, fine, (name, node.lineno))
+
+    def test_only_own_errors_are_taken(self):
+        own = {node.name for name, node in nodes(ast.ClassDef) if name == "errors.py"}
+        for name, node in nodes(ast.ExceptHandler):
+            self.assertIn(getattr(node.type, "id", ""), own, (name, node.lineno))
+
     def test_functions(self):
         for name, node in nodes((ast.FunctionDef, ast.Lambda)):
             args = node.args
